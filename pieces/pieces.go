@@ -1,7 +1,10 @@
 // Package pieces: bytes put together and taken apart piece by piece, by wire's calls: what the layers behind wire have in common.
 package pieces
 
-import "logboom/wire"
+import (
+	"logboom/api"
+	"logboom/wire"
+)
 
 // AppendInts writes each by wire.Int.
 func AppendInts(to []byte, list ...int) []byte {
@@ -31,4 +34,19 @@ func ReadFour(b string) int {
 		}
 	}
 	return n
+}
+
+// Seal writes a checksum of all ahead of it.
+func Seal(rest string) string { return Four(wire.Crc(rest)) + rest }
+
+// Unseal is what Seal was given. ErrShort: not even a checksum is there; ErrSum: it is of something else.
+func Unseal(b string) (string, api.Errno) {
+	if len(b) < 4 {
+		return "", api.ErrShort
+	}
+	rest := b[4:]
+	if ReadFour(b) != wire.Crc(rest) {
+		return "", api.ErrSum
+	}
+	return rest, api.OK
 }

@@ -2,6 +2,7 @@ package pieces_test
 
 import (
 	"encoding/binary"
+	"hash/crc32"
 	"math"
 	"reflect"
 	"strings"
@@ -46,6 +47,42 @@ func TestFourBytesTheHighestFirst(t *testing.T) {
 		if got := pieces.ReadFour(b); got != want {
 			t.Errorf("ReadFour(%q): %#x", b, got)
 		}
+	}
+}
+
+func TestSealWritesAChecksumAhead(t *testing.T) {
+	for _, rest := range []string{"", "\x00", "123456789", strings.Repeat("x", 70000)} {
+		sum := crc32.Checksum([]byte(rest), crc32.MakeTable(crc32.Castagnoli))
+		got := pieces.Seal(rest)
+		if want := string(binary.BigEndian.AppendUint32(nil, sum)) + rest; got != want {
+			t.Errorf("Seal(%.80q): %.80q, want %.80q", rest, got, want)
+		}
+		if back, e := pieces.Unseal(got); back != rest || e != api.OK {
+			t.Errorf("Unseal(%.80q): %.80q, %d", got, back, int(e))
+		}
+	}
+}
+
+func TestUnsealRefusesWhatSealDoesNotWrite(t *testing.T) {
+	right := pieces.Seal("some")
+	for n := range len(right) {
+		want := api.ErrSum
+		if n < 4 {
+			want = api.ErrShort
+		}
+		if rest, e := pieces.Unseal(right[:n]); rest != "" || e != want {
+			t.Errorf("Unseal of %d bytes: %q, %d, want %d", n, rest, int(e), int(want))
+		}
+	}
+	for i := range len(right) {
+		b := []byte(right)
+		b[i] ^= 0x80
+		if rest, e := pieces.Unseal(string(b)); rest != "" || e != api.ErrSum {
+			t.Errorf("Unseal of another byte %d: %q, %d", i, rest, int(e))
+		}
+	}
+	if rest, e := pieces.Unseal(right + "x"); rest != "" || e != api.ErrSum {
+		t.Errorf("Unseal of more: %q, %d", rest, int(e))
 	}
 }
 
