@@ -18,7 +18,7 @@ type call struct {
 // begin opens a call.
 func (p *Producer) begin(part int, l []api.Record) {
 	p.calls++
-	seen := api.Seen{Client: p.id, Call: p.calls, Kind: sendKind, Part: part, Text: l[0].Value}
+	seen := api.Seen{Client: p.asks.Id(), Call: p.calls, Kind: sendKind, Part: part, Text: l[0].Value}
 	p.open = append(p.open, &call{seen: seen, records: slices.Clone(l)})
 }
 

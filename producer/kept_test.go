@@ -6,19 +6,6 @@ import (
 	"logboom/api"
 )
 
-// TO ASK: behind the greatest number comes 1.
-func TestNumbersGoRound(t *testing.T) {
-	p, _ := New(101, []int{1}, 10, 5)
-	p.number = api.MaxOffset - 1
-	_, list, _ := p.Send(0, 2, []api.Record{{Value: "x"}})
-	for i, id := range []int{api.MaxOffset, 1, 2} {
-		if len(list) != 1 || list[0].Id != id {
-			t.Fatal(i, list)
-		}
-		list = p.Tick(10 * (i + 1))
-	}
-}
-
 // What is kept is what is open, and what was not told yet.
 func TestWhatIsKept(t *testing.T) {
 	p, _ := New(101, []int{1, 2}, 10, 2)

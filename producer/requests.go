@@ -4,7 +4,7 @@ import (
 	"slices"
 
 	"logboom/api"
-	"logboom/rpc"
+	"logboom/asker"
 )
 
 // The PID's aim stands where no call's partition is.
@@ -15,11 +15,9 @@ const pidRecord = 8
 
 // request is one under way: what is asked, and what comes of its end, are told by closures, be it of a call or for the PID.
 type request struct {
-	aim             int
-	tries, deadline int
-	sent            api.Msg // as it was last, without its lists
-	message         func() api.Msg
-	end             func(err api.Errno, offset int)
+	asker.Request
+	message func() api.Msg
+	end     func(err api.Errno, offset int)
 }
 
 // forCall asks for a call, in the sequences that are next.
@@ -27,7 +25,7 @@ func (p *Producer) forCall(c *call) *request {
 	part := c.seen.Part
 	c.seen.Pid, c.seen.PidEpoch, c.seen.Seq = p.pid, p.epoch, p.next[part]
 	return &request{
-		aim: part,
+		Request: p.asks.Begin(part),
 		message: func() api.Msg {
 			return api.Msg{Kind: api.ProduceAsk, Part: part, Batches: []api.Batch{c.batch()}}
 		},
@@ -43,7 +41,7 @@ func (p *Producer) forCall(c *call) *request {
 // forPid asks for a PID, or for a higher EPOCH of the one that there is.
 func (p *Producer) forPid() *request {
 	return &request{
-		aim: pidAim,
+		Request: p.asks.Begin(pidAim),
 		message: func() api.Msg {
 			return api.Msg{Kind: api.AdminAsk, Index: pidRecord, High: p.pid}
 		},
@@ -104,30 +102,17 @@ func (p *Producer) pumpCalls(now int) []api.Msg {
 }
 
 func (p *Producer) isBusy(aim int) bool {
-	return slices.ContainsFunc(p.requests, func(r *request) bool { return r.aim == aim })
+	return slices.ContainsFunc(p.requests, func(r *request) bool { return r.Aim() == aim })
 }
 
 // askFirst asks for what is not under way yet.
 func (p *Producer) askFirst(now int, r *request) api.Msg {
-	r.tries = p.tries
 	p.requests = append(p.requests, r)
 	return p.ask(now, r)
 }
 
-// ask asks whom the aim tells, by a number of its own: what was asked ahead is answered no more.
 func (p *Producer) ask(now int, r *request) api.Msg {
-	p.number = p.number%api.MaxOffset + 1
-	r.tries--
-	r.deadline = now + p.wait
-	m := r.message()
-	m.From, m.To, m.Id = p.id, p.aims[r.aim], p.number
-	r.sent = api.Msg{Kind: m.Kind, From: m.From, To: m.To, Id: m.Id}
-	return m
-}
-
-func (r *request) isAnsweredBy(m api.Msg) bool {
-	a := rpc.Answer(r.sent, api.OK)
-	return m.Id == a.Id && m.From == a.From && m.To == a.To && m.Kind == a.Kind
+	return p.asks.Ask(now, &r.Request, r.message())
 }
 
 // take takes a request's answer. Some errors pass by themselves: what had one is asked anew when its time is up.
@@ -135,31 +120,10 @@ func (p *Producer) take(now int, r *request, m api.Msg) {
 	switch m.Err {
 	case api.ErrInsync, api.ErrFull, api.ErrMany, api.ErrState, api.ErrNewer:
 	case api.ErrLeader:
-		p.turnBy(now, r, m.Last)
+		p.asks.TurnBy(now, &r.Request, m.Last)
 	default:
 		p.close(r, m.Err, m.Offset)
 	}
-}
-
-// turnBy aims at the broker of a hint, soon, or, without one, at another than was asked.
-func (p *Producer) turnBy(now int, r *request, hint int) {
-	if slices.Contains(p.brokers, hint) {
-		p.aims[r.aim], r.deadline = hint, now+1
-	} else {
-		p.aims[r.aim], r.deadline = p.behind(r.sent.To), now+p.wait
-	}
-}
-
-// turnFrom aims at another broker than was asked, if no answer has done so.
-func (p *Producer) turnFrom(r *request) {
-	if p.aims[r.aim] == r.sent.To {
-		p.aims[r.aim] = p.behind(r.sent.To)
-	}
-}
-
-// behind is the broker behind another one, round and round.
-func (p *Producer) behind(broker int) int {
-	return p.brokers[(slices.Index(p.brokers, broker)+1)%len(p.brokers)]
 }
 
 // close has a request be under way no more, and does what comes of its end.
